@@ -104,9 +104,10 @@ class RunTest(Asking, unittest.TestCase):
 
     def test_each_state_is_a_tick_behind_the_one_ahead(self):
         odd = (0, 1, 2, 2, 1, 0, 0, 2, 1, 1)
-        for web in (line_of(10), ring_of(10), FULL):
-            states = run(web, odd, 500)
-            self.assertEqual(odd, states[0])
+        for web in (line_of(10), ring_of(10), FULL, LOOSE, LOTS, FOUR, ALONE):
+            states = run(web, odd[:web[0]], 500)
+            self.assertEqual(501, len(states))
+            self.assertEqual(odd[:web[0]], states[0])
             for state, after in itertools.pairwise(states):
                 self.assertEqual(tick(web, state), after)
 
