@@ -16,6 +16,13 @@ INTERFACE = {
     ),
     "webs": ("parts", "far"),
     "moods": ("stirred", "tick", "run", "walk_sum"),
+    "walks": ("changes", "state_at", "best_walk", "shows_best_walk"),
+    "rests": (
+        "heights", "winding", "rests", "rest_paper", "judged_rest", "rest_tick", "end", "deciders",
+        "sway",
+    ),
+    "speeds": ("speed", "busy_ring", "speed_paper", "judged_speed"),
+    "whens": ("when_changed", "when_mood", "story"),
 }
 
 

@@ -2,18 +2,12 @@ import itertools
 import unittest
 
 from tests.samples import (
-    ALONE, FULL, LINE, LOTS, NO_INTEGERS, THREE, Asking, all_states, line_of, small_webs,
+    ALONE, FULL, LINE, LOTS, THREE, Asking, all_states, line_of, small_webs,
     wrong_folk, wrong_states, wrong_webs,
 )
+from tests.slow_ways import COUNTS
 from threemoods.errors import BadState, BadWalk, BadWeb
 from threemoods.moods import walk_sum
-
-# What a step counts, by the moods from which and to which it leads.
-COUNTS = {
-    (0, 0): 0, (1, 1): 0, (2, 2): 0,
-    (0, 1): 1, (1, 2): 1, (2, 0): 1,
-    (1, 0): -1, (2, 1): -1, (0, 2): -1,
-}
 
 NO_WALKS = (
     None, True, 0, 1, "", "0", "01", (), [], [0], [0, 1], {}, {0: 0}, {0: 0, 1: 1},

@@ -5,6 +5,7 @@ from threemoods.errors import BadFolk, BadNumber, BadState, BadWalk, BadWeb
 MOST_FOLK = 10
 MOODS = 3
 LONGEST_WALK = 200
+MOST_TICKS = 10 ** 30
 
 
 def is_integer(value):
@@ -71,12 +72,20 @@ def check_number(value, least, most):
         raise BadNumber("this is no integer within the limits")
 
 
+def wrong_item(near, walk):
+    """The index of the first item of a tuple that keeps it from being a walk, or None."""
+    for index, one in enumerate(walk):
+        if not is_folk(one, len(near)):
+            return index
+        if index > 0 and one != walk[index - 1] and one not in near[walk[index - 1]]:
+            return index
+    return None
+
+
 def check_walk(near, walk):
     """Raise BadWalk if a value is no walk of folk with these neighbours."""
     if not isinstance(walk, tuple) or not 1 <= len(walk) <= LONGEST_WALK:
         raise BadWalk(None)
-    for index, one in enumerate(walk):
-        if not is_folk(one, len(near)):
-            raise BadWalk(index)
-        if index > 0 and one != walk[index - 1] and one not in near[walk[index - 1]]:
-            raise BadWalk(index)
+    index = wrong_item(near, walk)
+    if index is not None:
+        raise BadWalk(index)

@@ -38,6 +38,20 @@ def state_after(near, state):
     return tuple(moved)
 
 
+def states_to(near, state, many):
+    """The list of the states of a checked state at the ticks 0 to many."""
+    states = [state]
+    for _ in range(many):
+        states.append(state_after(near, states[-1]))
+    return states
+
+
+def sum_of_steps(state, walk):
+    """What the steps of a checked walk add up to."""
+    moods = [state[one] for one in walk]
+    return sum([step_count(start, goal) for start, goal in zip(moods, moods[1:])])
+
+
 def stirred(web, state):
     """The ascending tuple of the folk with a neighbour whose mood beats theirs."""
     check_web(web)
@@ -57,11 +71,7 @@ def run(web, state, many):
     check_web(web)
     check_state(web, state)
     check_number(many, 0, LONGEST_RUN)
-    near = neighbours(web)
-    states = [state]
-    for _ in range(many):
-        states.append(state_after(near, states[-1]))
-    return tuple(states)
+    return tuple(states_to(neighbours(web), state, many))
 
 
 def walk_sum(web, state, walk):
@@ -69,5 +79,4 @@ def walk_sum(web, state, walk):
     check_web(web)
     check_state(web, state)
     check_walk(neighbours(web), walk)
-    moods = [state[one] for one in walk]
-    return sum([step_count(start, goal) for start, goal in zip(moods, moods[1:])])
+    return sum_of_steps(state, walk)

@@ -35,13 +35,17 @@ def part_of(near, start):
     return tuple([one for one, steps in enumerate(found) if steps is not None])
 
 
+def lots_of(near):
+    """The ascending list of the ascending tuples of the folk of each part."""
+    lots = [part_of(near, one) for one in range(len(near))]
+    # Each part is found once for each of its folk; the least of them gives it.
+    return [lot for one, lot in enumerate(lots) if lot[0] == one]
+
+
 def parts(web):
     """The ascending tuple of the ascending tuples of the folk of each part."""
     check_web(web)
-    near = neighbours(web)
-    lots = [part_of(near, one) for one in range(len(near))]
-    # Each part is found once for each of its folk; the least of them gives it.
-    return tuple([lot for one, lot in enumerate(lots) if lot[0] == one])
+    return tuple(lots_of(neighbours(web)))
 
 
 def far(web, one, other):
