@@ -115,3 +115,59 @@ def greatest_by_walks(web, state, many):
         steps = joined_table(steps, steps)
         many //= 2
     return tuple(max(way for way in row if way is not None) for row in whole)
+
+
+def rest_by_ticks(web, state):
+    """The first tick at which a state is still and the state then, None for never."""
+    states = states_by_ticks(web, state, 30)
+    if states[-2] != states[-1]:
+        return None
+    return states.index(states[-1]), states[-1]
+
+
+@functools.cache
+def ticks_in(web):
+    """What each state of a web becomes by a tick."""
+    return {
+        state: states_by_ticks(web, state, 1)[1]
+        for state in itertools.product(range(3), repeat=web[0])
+    }
+
+
+@functools.cache
+def sources_in(web):
+    """The states that become a state by a tick, for each that has any."""
+    found = {}
+    for state, after in ticks_in(web).items():
+        found.setdefault(after, []).append(state)
+    return found
+
+
+def before(web, states):
+    """The set of the states that become one of some by a tick."""
+    return {source for state in states for source in sources_in(web).get(state, ())}
+
+
+@functools.cache
+def rests_in(web):
+    """The first tick at which it is still, for each state of a web that comes to rest."""
+    ticks = {state: 0 for state, after in ticks_in(web).items() if state == after}
+    latest = list(ticks)
+    while latest:
+        latest = [state for state in before(web, latest) if state not in ticks]
+        ticks.update({state: ticks[ticks_in(web)[state]] + 1 for state in latest})
+    return ticks
+
+
+def round_by_ticks(web, state, many=200):
+    """The least first tick and period of a state, by running far beyond both."""
+    states = states_by_ticks(web, state, many)
+    period = states[-2::-1].index(states[-1]) + 1
+    first = next(tick for tick, now in enumerate(states) if now == states[tick + period])
+    return first, period
+
+
+def meet_by_ticks(web, one, other, many=200):
+    """The first tick at which two states have become the same, None for never."""
+    pairs = zip(states_by_ticks(web, one, many), states_by_ticks(web, other, many))
+    return next((tick for tick, (now, beside) in enumerate(pairs) if now == beside), None)

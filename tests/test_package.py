@@ -23,6 +23,13 @@ INTERFACE = {
     ),
     "speeds": ("speed", "busy_ring", "speed_paper", "judged_speed"),
     "whens": ("when_changed", "when_mood", "story"),
+    "rounds": ("coming_round", "meet", "becomes"),
+    "aheads": ("ahead", "eldest", "kin"),
+    "alls": (
+        "calm_for_all", "longest_rest", "fastest", "fastest_state", "shows_fastest_state",
+        "count_resting", "count_by_rest", "all_speeds",
+    ),
+    "repaints": ("calmed", "stirring"),
 }
 
 

@@ -4,20 +4,12 @@ from tests.samples import (
     ALONE, APART, FOUR, FULL, LINE, LOOSE, LOTS, THREE, WOUND, Asking, all_states, line_of,
     random_cases, ring_of, small_webs, unlike_webs, wrong_folk, wrong_states, wrong_webs,
 )
-from tests.slow_ways import changes_by_ticks, parts_in, states_by_ticks
+from tests.slow_ways import changes_by_ticks, parts_in, rest_by_ticks, states_by_ticks
 from threemoods.errors import BadFolk, BadState, BadWeb, NotResting
 from threemoods.rests import deciders, end, rest_tick, sway
 
 ODD = (0, 1, 2, 2, 1, 0, 0, 2, 1, 1)
 ASKED = (rest_tick, end, deciders)
-
-
-def rest_by_ticks(web, state):
-    """The first tick at which a state is still and the state then, None for never."""
-    states = states_by_ticks(web, state, 30)
-    if states[-2] != states[-1]:
-        return None
-    return states.index(states[-1]), states[-1]
 
 
 def greater_cases():

@@ -1,8 +1,9 @@
 """What the functions of the package ask of their arguments."""
 
-from threemoods.errors import BadFolk, BadNumber, BadState, BadWalk, BadWeb
+from threemoods.errors import BadFolk, BadNumber, BadState, BadWalk, BadWeb, TooMany
 
 MOST_FOLK = 10
+FEW_FOLK = 7
 MOODS = 3
 LONGEST_WALK = 200
 MOST_TICKS = 10 ** 30
@@ -28,6 +29,16 @@ def is_mood(value):
     return is_between(value, 0, MOODS - 1)
 
 
+def are_moods(value):
+    """Whether a value is a tuple of moods."""
+    return isinstance(value, tuple) and all([is_mood(item) for item in value])
+
+
+def is_state(value, many):
+    """Whether a value is a tuple of a mood for each of so many folk."""
+    return are_moods(value) and len(value) == many
+
+
 def is_street(value, many):
     """Whether a value is a pair of so many folk, the lesser one first."""
     if not isinstance(value, tuple) or len(value) != 2:
@@ -51,6 +62,12 @@ def check_web(web):
             raise BadWeb(index)
 
 
+def check_few(web):
+    """Raise TooMany if a web has more folk than all states can be gone through for."""
+    if web[0] > FEW_FOLK:
+        raise TooMany(FEW_FOLK)
+
+
 def check_folk(web, one):
     """Raise BadFolk if a value is none of the folk of a web."""
     if not is_folk(one, web[0]):
@@ -59,11 +76,8 @@ def check_folk(web, one):
 
 def check_state(web, state):
     """Raise BadState if a value is no state of a web."""
-    if not isinstance(state, tuple) or len(state) != web[0]:
+    if not is_state(state, web[0]):
         raise BadState("a state is a tuple of a mood for each of the folk")
-    for mood in state:
-        if not is_mood(mood):
-            raise BadState("a mood is 0, 1 or 2")
 
 
 def check_number(value, least, most):

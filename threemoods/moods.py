@@ -11,6 +11,11 @@ def beater(mood):
     return (mood + 1) % MOODS
 
 
+def beaten(mood):
+    """The mood that a mood beats."""
+    return (mood - 1) % MOODS
+
+
 def step_count(start, goal):
     """What a step between two moods counts: 1 to the one that beats, -1, or 0."""
     if goal == start:
@@ -18,6 +23,19 @@ def step_count(start, goal):
     if goal == beater(start):
         return 1
     return -1
+
+
+def with_mood(state, one, mood):
+    """A state with a mood for one, all others as they are."""
+    return state[:one] + (mood,) + state[one + 1:]
+
+
+def states_of(many):
+    """The ascending list of all states of so many folk."""
+    states = [()]
+    for _ in range(many):
+        states = [state + (mood,) for state in states for mood in range(MOODS)]
+    return states
 
 
 def is_stirred(near, state, one):

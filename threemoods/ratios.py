@@ -5,6 +5,8 @@ from math import gcd
 from threemoods.checks import is_integer
 
 ZERO = (0, 1)
+# All numbers from 1 to 10 divide it; the bottom of a speed is at most the length of a ring.
+FINEST = 2520
 
 
 def lowest(top, bottom):
@@ -28,6 +30,11 @@ def are_fractions(value, many):
     if not isinstance(value, tuple) or len(value) != many:
         return False
     return all([is_fraction(item) for item in value])
+
+
+def size_of(pace):
+    """A number that is the greater the greater a speed is."""
+    return pace[0] * (FINEST // pace[1])
 
 
 def is_at_most(count, pace, high, low):

@@ -2,7 +2,7 @@
 
 from threemoods.checks import MOODS, check_folk, check_state, check_web, is_integer
 from threemoods.errors import NotResting
-from threemoods.moods import step_count
+from threemoods.moods import step_count, with_mood
 from threemoods.orbits import orbit
 from threemoods.rings import is_ring, ring_sum
 from threemoods.webs import lots_of, neighbours
@@ -16,9 +16,11 @@ def climb(near, state):
     """
     levels = [None] * len(near)
     origins = [None] * len(near)
-    for lot in lots_of(near):
-        levels[lot[0]] = 0
-        waiting = [lot[0]]
+    for first in range(len(near)):
+        if levels[first] is not None:
+            continue
+        levels[first] = 0
+        waiting = [first]
         while waiting:
             one = waiting.pop()
             for other in near[one]:
@@ -35,6 +37,11 @@ def odd_streets(web, state, levels):
         (one, other) for one, other in web[1]
         if levels[other] - levels[one] != step_count(state[one], state[other])
     ]
+
+
+def comes_to_rest(web, state):
+    """Whether some tick makes a checked state still."""
+    return not odd_streets(web, state, climb(neighbours(web), state)[0])
 
 
 def heights_of(web, state):
@@ -97,7 +104,7 @@ def rests(web, state):
     """Whether some tick makes the state still."""
     check_web(web)
     check_state(web, state)
-    return heights_of(web, state) is not None
+    return comes_to_rest(web, state)
 
 
 def rest_paper(web, state):
@@ -168,7 +175,7 @@ def deciders(web, state):
 
 def end_if_any(web, state):
     """The still state that a checked state becomes, None if it never rests."""
-    if heights_of(web, state) is None:
+    if not comes_to_rest(web, state):
         return None
     return last_state(web, state)
 
@@ -178,5 +185,5 @@ def sway(web, state, one):
     check_web(web)
     check_state(web, state)
     check_folk(web, one)
-    states = [state[:one] + (mood,) + state[one + 1:] for mood in range(MOODS)]
+    states = [with_mood(state, one, mood) for mood in range(MOODS)]
     return tuple([end_if_any(web, now) for now in states])

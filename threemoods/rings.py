@@ -25,3 +25,30 @@ def is_ring(near, value):
 def ring_sum(state, ring):
     """What the steps round a ring add up to."""
     return sum([step_count(state[one], state[other]) for one, other in ring_steps(ring)])
+
+
+def longer_lines(near, lines):
+    """Lines of unlike folk, the least one first, that go on from lines by one more.
+
+    Of those that hold the same folk and end alike one is enough: they go on alike.
+    """
+    found = {}
+    for line in lines:
+        for other in near[line[-1]]:
+            if other > line[0] and other not in line:
+                longer = line + (other,)
+                key = (tuple(sorted(longer)), other)
+                found[key] = longer
+    return list(found.values())
+
+
+def rings_by_length(near):
+    """A ring of each length of which there is any, by the length."""
+    rings = {}
+    lines = [(one,) for one in range(len(near))]
+    while lines:
+        lines = longer_lines(near, lines)
+        for line in lines:
+            if len(line) >= SHORTEST_RING and line[0] in near[line[-1]]:
+                rings[len(line)] = line
+    return rings
