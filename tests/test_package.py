@@ -8,7 +8,7 @@ PACKAGE = pathlib.Path(__file__).resolve().parent.parent / "threemoods"
 
 LIBRARY = {"heapq", "math", "itertools", "collections"}
 
-# The functions and classes of the interface that have landed, by file.
+# The functions and classes of the interface, by file.
 INTERFACE = {
     "errors": (
         "MoodError", "BadWeb", "BadState", "BadFolk", "BadNumber", "BadWalk", "BadStreet",
@@ -30,6 +30,10 @@ INTERFACE = {
         "count_resting", "count_by_rest", "all_speeds",
     ),
     "repaints": ("calmed", "stirring"),
+    "others": ("with_street", "without_street", "joined", "stretched", "renamed", "likenesses"),
+    "seens": ("fits", "sure"),
+    "notation": ("write_web", "write_state", "read_web", "read_state"),
+    "desk": ("Desk",),
 }
 
 
@@ -85,6 +89,17 @@ class PackageTest(unittest.TestCase):
             ]
             for word in words:
                 self.assertIn(word, defined, name)
+
+    def test_methods_and_properties_are_defined_in_their_class(self):
+        tree = ast.parse((PACKAGE / "desk.py").read_text("ascii"))
+        desk = next(node for node in tree.body if isinstance(node, ast.ClassDef))
+        defined = {
+            node.name: [ast.unparse(item) for item in node.decorator_list]
+            for node in desk.body if isinstance(node, ast.FunctionDef)
+        }
+        self.assertEqual([], defined["run"])
+        self.assertEqual(["property"], defined["state"])
+        self.assertEqual(["property"], defined["ticks"])
 
 
 if __name__ == "__main__":

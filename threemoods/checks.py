@@ -1,6 +1,6 @@
 """What the functions of the package ask of their arguments."""
 
-from threemoods.errors import BadFolk, BadNumber, BadState, BadWalk, BadWeb, TooMany
+from threemoods.errors import BadFolk, BadNumber, BadState, BadWalk, BadWeb, NotText, TooMany
 
 MOST_FOLK = 10
 FEW_FOLK = 7
@@ -84,6 +84,12 @@ def check_number(value, least, most):
     """Raise BadNumber if a value is no integer from least to most."""
     if not is_between(value, least, most):
         raise BadNumber("this is no integer within the limits")
+
+
+def check_text(value):
+    """Raise NotText if a value is no string."""
+    if not isinstance(value, str):
+        raise NotText("this is no string")
 
 
 def wrong_item(near, walk):
